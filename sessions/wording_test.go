@@ -230,7 +230,7 @@ func reply(n int) api.Reply {
 	return api.Reply{Code: api.Errno(n + 1), N: n + 2, M: n + 3, Bytes: []byte{byte(n), byte(n >> 8), 9}}
 }
 
-// P15.1, P15.2: whatever four calls follow each other, each does what the chapter says, with an error or without.
+// P15.1, P15.2: whatever three calls follow each other, in a new table or behind an Open, each does what the chapter says, with an error or without.
 func TestAllShortSequences(t *testing.T) {
 	var calls []call
 	calls = append(calls, call{kind: open})
